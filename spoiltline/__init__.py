@@ -1,0 +1,1 @@
+"""Spoiltline: what transmission errors do to what a decoder writes."""
