@@ -7,18 +7,26 @@ are in it.
 """
 
 from spoiltline.checks import is_count, is_text
+from spoiltline.columns import changes_between
 from spoiltline.errors import InvalidCount, InvalidText
+from spoiltline.words import length_of_root
 
 # So far ahead of row 0 that no step from here comes to a row.
 NOWHERE = -2
 # Letters that are compared at once: long texts that are mostly alike would take long letter by letter.
 BLOCK = 64
+# Up to so many changes, and one more for so many letters, going by diagonals is tried first.
+FEW = 32
+LETTERS = 100
 
 
 def distance(one, other):
     """The least number of changes that turn the one text into the other."""
     check_texts(one, other)
-    return fewest_changes(one, other, longer(one, other))
+    few = fewest_changes(one, other, FEW + longer(one, other) // LETTERS)
+    if few is not None:
+        return few
+    return changes_between(one, other)
 
 
 def near(one, other, most):
@@ -32,15 +40,17 @@ def near(one, other, most):
 def round_price(one, other):
     """The least distance between the one text and a turn of the other."""
     check_texts(one, other)
-    least = fewest_changes(one, other, longer(one, other))
-    for start in range(1, len(other)):
-        turn = other[start:] + other[:start]
-        if turn == other:
-            # From here on the same turns come again.
-            break
-        less = fewest_changes(one, turn, least - 1)
-        if less is not None:
-            least = less
+    if length_of_root(one) < length_of_root(other):
+        # The price is the same the other way round, and the shorter root has fewer turns.
+        one, other = other, one
+    least = changes_between(one, other)
+    turns = length_of_root(other)
+    turned = 1
+    while turned < turns:
+        changes = changes_between(one, other[turned:] + other[:turned])
+        least = min(least, changes)
+        # Turning by one letter more takes two changes at most: no turn before this one has less.
+        turned += (changes - least + 2) // 2
     return least
 
 

@@ -50,6 +50,15 @@ def long_pairs():
 LONG = long_pairs()
 
 
+class LongTexts(unittest.TestCase):
+    def test_unlike_and_nearly_alike(self):
+        dice = random.Random(40)
+        text = random_text(dice, "abcdef", 20000)
+        self.assertEqual(distance(text, text[:5000] + "z" + text[5002:]), 2)
+        self.assertEqual(distance("a" * 1500, "b" * 1200), 1500)
+        self.assertEqual(distance("ab" * 700, "ba" * 700), 2)
+
+
 class Examples(unittest.TestCase):
     def test_distances(self):
         self.assertEqual([distance("xy", "yx"), distance("", "abc"), distance("kitten", "sitting"), near("xy", "yx", 1),
@@ -298,6 +307,21 @@ class RoundPrices(unittest.TestCase):
         self.assertEqual(round_price(text[:60], ""), 60)
         other = random_text(dice, "abc", 30)
         self.assertEqual(round_price(text[:40], other), self.plainly(text[:40], other))
+
+    def test_one_turn_far_below_the_others(self):
+        dice = random.Random(38)
+        for letters, many in (("abcdef", 60), ("ab", 60), ("abc", 45)):
+            text = random_text(dice, letters, many)
+            for at in (0, 1, many // 2, many - 1):
+                other = changed_text(dice, text[at:] + text[:at], 3)
+                self.assertEqual(round_price(text, other), self.plainly(text, other))
+                self.assertEqual(round_price(other, text), self.plainly(text, other))
+
+    def test_long_texts(self):
+        dice = random.Random(39)
+        text = random_text(dice, "abc", 1000)
+        self.assertEqual(round_price(text, text[600:] + text[1:600]), 1)
+        self.assertEqual(round_price("ab" * 700, "ba" * 500), 400)
 
     def test_the_fact_of_rounds(self):
         dice = random.Random(37)

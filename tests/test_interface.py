@@ -3,17 +3,33 @@
 import inspect
 import unittest
 
-from helpers import check_refused, many_decoders
-from spoiltline import decoders, distances
+from helpers import CODE, LOST, cases, check_refused, many_decoders
+from spoiltline import decoders, distances, endless, gaps, harms, lags, pairs, passings, words
 from spoiltline.errors import InvalidText
 
 FUNCTIONS = {
     decoders: {"shortest_line": ["decoder"], "text_of": ["decoder"], "read_decoder": ["text"]},
     distances: {"distance": ["one", "other"], "alignment": ["one", "other"], "is_alignment": ["one", "other", "value"],
                 "near": ["one", "other", "most"], "round_price": ["one", "other"]},
+    passings: {"is_kind": ["value", "signs"], "is_passing": ["value", "signs"], "all_kinds": ["signs"],
+               "sent": ["passing"], "came": ["passing"], "errors_in": ["passing"], "harm_of": ["decoder", "passing"],
+               "plain_harm": ["decoder", "kinds", "many", "steps"], "least_passing": ["one", "other", "kinds"]},
+    words: {"root": ["text"], "turns": ["one", "other"], "lag_behind": ["lag", "one", "other"],
+            "staying": ["one", "other", "most"]},
+    lags: {"lags": ["pairs", "knot"], "lag_at": ["pairs", "knot", "number", "pair"], "loops": ["pairs", "knot"]},
+    endless: {"least_endless": ["decoder", "kinds"], "endless": ["decoder", "kinds"],
+              "is_endless": ["decoder", "kinds", "value"]},
+    gaps: {"gaps": ["pairs", "start", "many"], "gap_price": ["before", "left", "right", "behind"]},
+    harms: {"harm": ["decoder", "kinds", "many"], "worst": ["decoder", "kinds", "many"],
+            "ceiling": ["decoder", "kinds", "many"], "is_ceiling": ["decoder", "kinds", "many", "number", "value"]},
 }
-METHODS = {"__init__": ["self", "signs", "steps", "ends"], "written": ["self", "line"], "state_after": ["self", "line"],
-           "trimmed": ["self"], "__eq__": ["self", "other"]}
+METHODS = {
+    decoders.Decoder: {"__init__": ["self", "signs", "steps", "ends"], "written": ["self", "line"],
+                       "state_after": ["self", "line"], "trimmed": ["self"], "__eq__": ["self", "other"]},
+    pairs.Pairs: {"__init__": ["self", "decoder", "kinds"], "edges": ["self", "pair"], "errors_to": ["self", "pair"],
+                  "errors_from": ["self", "pair"], "way": ["self", "start", "goal"], "way_out": ["self", "start"],
+                  "knot_of": ["self", "pair"]},
+}
 
 
 def arguments(function):
@@ -31,12 +47,16 @@ class Names(unittest.TestCase):
 
     def test_methods_stand_in_the_class_itself(self):
         self.assertEqual(decoders.Decoder.__module__, "spoiltline.decoders")
-        for name, told in METHODS.items():
-            self.assertEqual(arguments(vars(decoders.Decoder)[name]), told)
+        self.assertEqual(pairs.Pairs.__module__, "spoiltline.pairs")
+        for kind, methods in METHODS.items():
+            for name, told in methods.items():
+                self.assertEqual(arguments(vars(kind)[name]), told)
 
     def test_attributes_are_set_when_the_object_is_made(self):
         for decoder in many_decoders(5):
             self.assertEqual(sorted(vars(decoder)), ["ends", "signs", "states", "steps"])
+            told = vars(pairs.Pairs(decoder, []))
+            self.assertTrue({"decoder", "kinds", "useful", "knots"} <= set(told))
 
 
 class Conventions(unittest.TestCase):
@@ -57,6 +77,28 @@ class Conventions(unittest.TestCase):
             decoders.shortest_line(decoder)
             decoders.text_of(decoder)
             self.assertEqual((decoder.signs, decoder.states, decoder.steps, decoder.ends), before)
+
+    def test_calls_change_nothing_that_is_handed_in(self):
+        kinds, paper = list(LOST), harms.ceiling(CODE, LOST, 2)
+        before = (list(kinds), [(knot, errors, list(row)) for knot, errors, row in paper])
+        for call in (endless.endless, endless.least_endless, pairs.Pairs):
+            call(CODE, kinds)
+        for call in (harms.harm, harms.worst, harms.ceiling):
+            call(CODE, kinds, 2)
+        harms.is_ceiling(CODE, kinds, 2, 4, paper)
+        passings.plain_harm(CODE, kinds, 1, 2)
+        passings.least_passing((0, 1), (1,), kinds)
+        self.assertEqual((kinds, paper), before)
+
+    def test_equal_answers_for_equal_arguments(self):
+        for decoder, kinds in cases(5, 10):
+            again = decoders.Decoder(decoder.signs, [list(row) for row in decoder.steps], list(decoder.ends))
+            self.assertEqual(endless.endless(decoder, kinds), endless.endless(again, tuple(kinds)))
+            one, other = pairs.Pairs(decoder, kinds), pairs.Pairs(again, tuple(kinds))
+            for index in range(len(one.knots)):
+                self.assertEqual(lags.lags(one, index), lags.lags(other, index))
+                if lags.lags(one, index)[0] != "bad":
+                    self.assertEqual(lags.loops(one, index), lags.loops(other, index))
 
 
 if __name__ == "__main__":
