@@ -4,6 +4,7 @@ from spoiltline.checks import is_below, is_count, is_integer, is_list
 from spoiltline.courses import END, START, gaps_from, price_of
 from spoiltline.errors import TooMany
 from spoiltline.lags import known_lags
+from spoiltline.rows import least_sum
 
 MOST_NUMBER = 400
 
@@ -31,64 +32,111 @@ def paper_of(search):
 
 
 class Paper:
-    """A value that has the form of a ceiling of a number."""
+    """A value that has the form of a ceiling of a number.
+
+    For each knot that it has one lag is chosen. What a row has for this lag and the price of a gap between chosen
+    lags are enough where a row behind the gap has so much to spare: most gaps are answered for at once then.
+    """
 
     def __init__(self, pairs, many, number, value):
         self.pairs = pairs
         self.many = many
-        self.number = number
-        # The unlike rows for each knot and number of errors.
-        self.rows = {}
+        # The unlike rows for each knot and number of errors; at the end one that has the number for the only lag.
+        self.rows = {(END, errors): {((0, number),): True} for errors in range(many + 1)}
+        self.rows[(START, 0)] = {((0, 0),): True}
         for knot, errors, row in value:
             self.rows.setdefault((knot, errors), {})[tuple(row)] = True
-        # For each gap the prices worked out so far: (number of a lag ahead, number of a lag behind, price).
+        self.chosen = frequent_lags(self.rows)
+        self.spare = {mark: max([spare_of(row, self.chosen[mark[0]]) for row in rows])
+                      for mark, rows in self.rows.items()}
+        # The prices worked out so far: by the gap, the number of a lag ahead and that of a lag behind.
         self.prices = {}
 
     def holds(self):
         """Whether each gap from the beginning and behind each row is answered for."""
         fewest = {}
-        for knot, errors in self.rows:
-            fewest[knot] = min(errors, fewest.get(knot, errors))
-        gaps = {knot: gaps_from(self.pairs, knot, self.many - fewest[knot]) for knot in fewest}
-        if not self.is_answered(START, 0, ((0, 0),), gaps_from(self.pairs, START, self.many)):
-            return False
-        return all([self.is_answered(knot, errors, row, gaps[knot])
-                    for (knot, errors), rows in self.rows.items() for row in rows])
-
-    def is_answered(self, stop, errors, row, gaps):
-        """Whether each of the gaps behind a row leads to too many errors, or to a row that has no less."""
-        for gap in gaps:
-            together = errors + gap.errors
-            if gap.met == END:
-                # As if there were a row with the number for the only lag.
-                needed, rows = together, [((0, self.number),)]
-            else:
-                needed = together + self.pairs.errors_from(gap.goal)
-                rows = self.rows.get((gap.met, together), {})
-            if needed <= self.many and not any([self.leads_to(row, stop, gap, behind) for behind in rows]):
-                return False
+        for stop, errors in self.rows:
+            fewest[stop] = min(errors, fewest.get(stop, errors))
+        for stop in fewest:
+            if stop != END:
+                told = self.gaps_by_price(stop, self.many - fewest[stop])
+                rows = [(errors, row) for (met, errors), rows in self.rows.items() if met == stop for row in rows]
+                if not all([self.is_answered(stop, errors, row, told) for errors, row in rows]):
+                    return False
         return True
+
+    def gaps_by_price(self, stop, many):
+        """For each (stop, errors) to which gaps lead the list of (price between chosen lags, gap), the dearest first."""
+        told = {}
+        for gap in gaps_from(self.pairs, stop, many):
+            # To a knot that the paper has not no lag is chosen, and no price is asked.
+            price = 0
+            if gap.met in self.chosen:
+                price = self.price(stop, self.chosen[stop], gap, self.chosen[gap.met])
+            told.setdefault((gap.met, gap.errors), []).append((price, gap))
+        return {mark: sorted(told[mark], key=lambda row: row[0], reverse=True) for mark in told}
+
+    def is_answered(self, stop, errors, row, told):
+        """Whether each of the gaps behind a row leads to too many errors, or to a row that has no less."""
+        ahead = least_sum(row, self.chosen[stop])
+        for (met, more), gaps in told.items():
+            together = errors + more
+            needed = 0 if met == END else self.pairs.errors_from(self.pairs.knots[met][0])
+            if together + needed > self.many:
+                continue
+            if (met, together) not in self.rows:
+                return False
+            for price, gap in gaps:
+                if ahead + price <= self.spare[(met, together)]:
+                    break
+                if not self.leads_to_one(row, stop, gap, self.rows[(met, together)]):
+                    return False
+        return True
+
+    def leads_to_one(self, row, stop, gap, rows):
+        """Whether a gap leads from a row to one of these that has no less for any of its lags."""
+        for behind in rows:
+            if self.leads_to(row, stop, gap, behind):
+                return True
+        return False
 
     def leads_to(self, row, stop, gap, behind):
-        """Whether for each lag and sum of the row behind a gap some lag of the one ahead comes to no more."""
         for number, most in behind:
-            if not any([self.is_at_most(stop, ahead, gap, number, most - total) for ahead, total in row]):
+            if not self.is_at_most(row, stop, gap, number, most):
                 return False
         return True
 
-    def is_at_most(self, stop, ahead, gap, behind, most):
-        """Whether a gap costs at most so much between two lags."""
-        known = self.prices.setdefault(gap, [])
-        for one, other, price in known:
-            # Between lags that are so far from these it costs no more and no less than by so much.
-            away = abs(one - ahead) + abs(other - behind)
-            if price + away <= most:
+    def is_at_most(self, row, stop, gap, number, most):
+        """Whether for some lag of a row the sum with the price of a gap to a lag is at most this."""
+        least = self.price(stop, self.chosen[stop], gap, self.chosen[gap.met]) - abs(number - self.chosen[gap.met])
+        for ahead, total in row:
+            # Lags that are so far from the chosen one change a price by no more.
+            if total + least - abs(ahead - self.chosen[stop]) > most:
+                continue
+            if total + self.price(stop, ahead, gap, number) <= most:
                 return True
-            if price - away > most:
-                return False
-        price = price_of(self.pairs, stop, ahead, gap, behind)
-        known.append((ahead, behind, price))
-        return price <= most
+        return False
+
+    def price(self, stop, number, gap, behind):
+        mark = (gap, number, behind)
+        if mark not in self.prices:
+            self.prices[mark] = price_of(self.pairs, stop, number, gap, behind)
+        return self.prices[mark]
+
+
+def frequent_lags(rows):
+    """For each stop the number of the lag that the most of its rows have."""
+    times = {}
+    for (stop, _), told in rows.items():
+        counts = times.setdefault(stop, {})
+        for number in [number for row in told for number, _ in row]:
+            counts[number] = counts.get(number, 0) + 1
+    return {stop: max([(times[stop][number], number) for number in times[stop]])[1] for stop in times}
+
+
+def spare_of(row, number):
+    """How much there may be for the lag with this number, so that a row with that is nowhere above this one."""
+    return min([total - abs(lag - number) for lag, total in row])
 
 
 def is_form(pairs, many, number, value):

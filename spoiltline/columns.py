@@ -8,7 +8,10 @@ for each letter of the pattern: up has those at which the distance grows, down t
 
 def changes_between(one, other):
     """The Levenshtein distance of two texts."""
-    return spread(one, "", other, "")[0][0]
+    letters, pattern = (one, other) if len(one) < len(other) else (other, one)
+    whole = (1 << len(pattern)) - 1
+    up, down = column_behind(whole, 0, letters, places_of(pattern), whole)
+    return len(letters) + ones(up) - ones(down)
 
 
 def spread(one, more, other, beyond):
@@ -16,50 +19,40 @@ def spread(one, more, other, beyond):
     letters of more behind it to other."""
     pattern = other + beyond
     whole = (1 << len(pattern)) - 1
+    below = (1 << len(other)) - 1
     places = places_of(pattern)
-    up, down = whole, 0
-    for letter in one:
-        up, down, _, _ = next_column(up, down, places.get(letter, 0), whole)
-    ahead = heights(up, down, len(one), len(other), len(pattern))
-    height = ahead[0]
-    aside = [height]
-    for letter in more:
-        up, down, raised, lowered = next_column(up, down, places.get(letter, 0), whole)
-        height += bit_of(raised, len(other)) - bit_of(lowered, len(other))
-        aside.append(height)
+    up, down = column_behind(whole, 0, one, places, whole)
+    ahead = [len(one) + ones(up & below) - ones(down & below)]
+    for at in range(len(other), len(pattern)):
+        ahead.append(ahead[-1] + ((up >> at) & 1) - ((down >> at) & 1))
+    aside = [ahead[0]]
+    for at, letter in enumerate(more, start=len(one) + 1):
+        up, down = column_behind(up, down, letter, places, whole)
+        aside.append(at + ones(up & below) - ones(down & below))
     return ahead, aside
 
 
 def places_of(pattern):
     """For each letter of the pattern the bits of the places where it stands."""
     places = {}
-    for at, letter in enumerate(pattern):
-        places[letter] = places.get(letter, 0) | (1 << at)
+    bit = 1
+    for letter in pattern:
+        places[letter] = places.get(letter, 0) | bit
+        bit = bit << 1
     return places
 
 
-def next_column(up, down, same, whole):
-    """The column behind one more letter, which stands at the places same of the pattern, and for each
-    height of the table, from 0 on, whether the distance is raised or lowered there by the letter."""
-    level = (((same & up) + up) ^ up) | same | down
-    raised = ((down | (whole & ~(level | up))) << 1) | 1
-    lowered = (level & up) << 1
-    return (lowered | ~(level | raised)) & whole, level & raised & whole, raised, lowered
-
-
-def heights(up, down, lowest, start, end):
-    """The distances of a column from the height start to the height end, both included; lowest stands at height 0."""
-    below = (1 << start) - 1
-    height = lowest + ones(up & below) - ones(down & below)
-    told = [height]
-    for at in range(start, end):
-        height += bit_of(up, at) - bit_of(down, at)
-        told.append(height)
-    return told
-
-
-def bit_of(bits, at):
-    return (bits >> at) & 1
+def column_behind(up, down, letters, places, whole):
+    """The column behind some letters more; whole has the bits of all places."""
+    for letter in letters:
+        same = places.get(letter, 0)
+        # Where the distance does not change from the place ahead in both texts; this carries along runs of up.
+        level = (((same & up) + up) ^ up) | same | down
+        raised = ((down | ~(level | up)) << 1) | 1
+        lowered = (level & up) << 1
+        up = (lowered | ~(level | raised)) & whole
+        down = level & raised & whole
+    return up, down
 
 
 def ones(bits):

@@ -4,7 +4,7 @@ A stop is here the index of a knot, START or END.
 """
 
 from spoiltline.distances import alike
-from spoiltline.gaps import gaps_within, price_between
+from spoiltline.gaps import GapSearch, price_between
 from spoiltline.lags import PLACE, ROUND, known_lags
 
 START = -1
@@ -92,11 +92,11 @@ def gaps_from(pairs, stop, many):
 
     Of the gaps with as many errors that cost the same between the same lags there is one.
     """
-    needed = {pair: pairs.errors_from(pair) for pair in pairs.useful}
+    search = GapSearch(pairs, {pair: pairs.errors_from(pair) for pair in pairs.useful})
     starts = [None] if stop == START else pairs.knots[stop]
     found = {}
     for first in starts:
-        for goal, left, right, errors in gaps_within(pairs, first, many, needed):
+        for goal, left, right, errors in search.gaps_from(first, many):
             gap = Gap(first, goal, left, right, errors, END if goal is None else pairs.knot_of(goal))
             found.setdefault(effect_of(pairs, stop, gap), gap)
     return list(found.values())

@@ -16,7 +16,7 @@ def gaps(pairs, start, many):
         raise InvalidPair(start)
     if not is_count(many):
         raise InvalidCount(many)
-    return gaps_within(pairs, start, many, errors_to_stops(pairs))
+    return GapSearch(pairs, errors_to_stops(pairs)).gaps_from(start, many)
 
 
 def gap_price(before, left, right, behind):
@@ -36,55 +36,63 @@ def price_between(before, left, right, behind):
     return changes_between(before[0] + left + behind[1], before[1] + right + behind[0])
 
 
-def gaps_within(pairs, start, many, needed):
-    """As gaps, but only those that have at most so many errors with the ones that are needed from their goals on.
-
-    Here needed tells this number for each useful pair, at least that of any way to the goal of a gap.
-    """
-    if pairs.useful == ():
-        return []
-    if start is None and pairs.knot_of(BEGINNING) is not None:
-        return [(BEGINNING, "", "", 0)]
-    search = GapSearch(pairs, many, needed)
-    search.begin(start)
-    for errors in range(many + 1):
-        search.go_on(errors)
-        if search.waiting == {}:
-            break
-    return search.listed()
-
-
 class GapSearch:
-    """Ways from one start, those with fewer errors first, and what they write."""
+    """Looks for what the gaps from a start write, going along ways with fewer errors first.
 
-    def __init__(self, pairs, many, needed):
+    Here needed tells for each useful pair a number of errors, at least that of any way to where a gap may end. Gaps
+    count only if they have at most so many errors with those that are needed from their goals on.
+    """
+
+    def __init__(self, pairs, needed):
         self.pairs = pairs
-        self.many = many
         self.needed = needed
+        self.many = 0
         # By their errors, the ways to be gone on with: (pair to which they lead, left, right).
         self.waiting = {}
         # What the ways to each pair that stands in no knot write, and the errors of each (goal, left, right).
         self.texts = {}
         self.found = {}
+        # The edges from each pair that stands in no knot, None for other pairs, once a way leads there.
+        self.onward = {}
 
-    def begin(self, start):
+    def gaps_from(self, start, many):
+        """The ascending list of (goal, left, right, errors)."""
+        if self.pairs.useful == ():
+            return []
+        if start is None and self.pairs.knot_of(BEGINNING) is not None:
+            return [(BEGINNING, "", "", 0)]
+        self.many = many
+        self.waiting = {}
+        self.texts = {}
+        self.found = {}
         if start is None:
             self.waiting[0] = [(BEGINNING, "", "")]
-            return
-        self.end_at(start, "", "", 0)
-        self.follow(edges_away(self.pairs, start), "", "", 0)
+        else:
+            self.end_at(start, "", "", 0)
+            self.follow(edges_away(self.pairs, start), "", "", 0)
+        for errors in range(many + 1):
+            self.go_on(errors)
+            if self.waiting == {}:
+                break
+        return self.listed()
 
     def go_on(self, errors):
         """Goes on with all ways that have so many errors."""
         stack = self.waiting.pop(errors, [])
         while stack:
             pair, left, right = stack.pop()
-            if self.pairs.knot_of(pair) is not None:
+            edges = self.edges_onward(pair)
+            if edges is None:
                 self.keep(pair, left, right, errors)
             elif self.is_new(pair, left, right):
                 self.end_at(pair, left, right, errors)
-                self.follow(self.pairs.edges(pair), left, right, errors)
+                self.follow(edges, left, right, errors)
                 stack.extend(self.waiting.pop(errors, []))
+
+    def edges_onward(self, pair):
+        if pair not in self.onward:
+            self.onward[pair] = self.pairs.edges(pair) if self.pairs.knot_of(pair) is None else None
+        return self.onward[pair]
 
     def follow(self, edges, left, right, errors):
         for edge in edges:

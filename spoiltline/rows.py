@@ -38,8 +38,9 @@ class Search:
         self.waiting = {}
         # By what is needed, a course that is at the end: (node, gap).
         self.ended = {}
-        # What is worked out once: the gaps from a stop with their bounds, the rows kept, the prices of a gap.
+        # What is worked out once: the gaps from a stop with their bounds, the rows met and kept, the prices of a gap.
         self.options = {}
+        self.met = {}
         self.kept = {}
         self.prices = {}
         self.harm = 0
@@ -57,7 +58,7 @@ class Search:
                     return False
                 times += 1
                 node, at = self.waiting[bound].pop()
-                self.go_on(node, at)
+                self.go_on(node, at, bound)
             if bound in self.ended:
                 self.harm = bound
                 self.last = self.ended[bound]
@@ -99,8 +100,8 @@ class Search:
             self.options[(stop, many)] = sorted(rows, key=lambda row: row[0], reverse=True)
         return self.options[(stop, many)]
 
-    def go_on(self, node, at):
-        """Goes on with the course of a node by the gap with this index."""
+    def go_on(self, node, at, bound):
+        """Goes on with the course of a node by the gap with this index, with which no more than the bound is needed."""
         self.wait(node, at + 1)
         _, gap = self.options_of(node.stop, self.courses.many - node.errors)[at]
         if gap.met == END:
@@ -108,15 +109,18 @@ class Search:
             needed = min([total + price_of(pairs, node.stop, number, gap, 0) for number, total in node.row])
             self.ended.setdefault(needed, (node, gap))
             return
-        behind = Node(gap.met, node.errors + gap.errors, self.row_behind(node, gap), node, gap)
+        behind = Node(gap.met, node.errors + gap.errors, self.row_behind(node, gap, bound), node, gap)
         if self.is_new(behind):
             self.take(behind)
 
-    def row_behind(self, node, gap):
-        """The row behind one gap more, without the lags that need more than going on from the chosen one."""
+    def row_behind(self, node, gap, bound):
+        """The row behind one gap more, without the lags that need more than going on from the chosen one, which needs
+        no more than the bound."""
         sums = {}
         for number, total in node.row:
-            for goal, price in self.prices_to(node.stop, number, gap):
+            for price, goal in self.prices_to(node.stop, number, gap):
+                if total + price > bound:
+                    break
                 sums[goal] = min(total + price, sums.get(goal, total + price))
         rest = self.courses.rest[(gap.met, self.courses.many - node.errors - gap.errors)]
         most = least_sum(list(sums.items()), self.courses.chosen[gap.met]) + rest
@@ -132,9 +136,14 @@ class Search:
 
     def is_new(self, node):
         """Keeps the row of a node unless one that is nowhere below it is kept."""
-        kept = self.kept.setdefault((node.stop, node.errors), [])
-        if any([is_nowhere_below(row, node.row) for row in kept]):
+        met = self.met.setdefault((node.stop, node.errors), {})
+        if node.row in met:
             return False
+        met[node.row] = True
+        kept = self.kept.setdefault((node.stop, node.errors), [])
+        for row in kept:
+            if is_nowhere_below(row, node.row):
+                return False
         kept.append(node.row)
         if len(kept) > MOST_ROWS:
             raise TooMany(len(kept))
@@ -153,16 +162,20 @@ def is_corner(sums, number, step):
 
 
 def is_nowhere_below(row, other):
-    return all([total >= least_sum(other, number) for number, total in row])
+    for number, total in row:
+        if total < least_sum(other, number):
+            return False
+    return True
 
 
 def prices_from(pairs, stop, number, gap, most):
-    """The list of (number of a lag, price) of a gap from one lag, for all lags to which it may cost at most so much."""
+    """The ascending list of (price, number of a lag) of a gap from one lag, with all lags to which it costs at most
+    so much, and perhaps more."""
     before = lag_of(pairs, stop, number, gap.first)
     known = known_lags(pairs, gap.met)
     sort, least, period = known.told
     if sort == PLACE:
-        return [(least, price_between(before, gap.left, gap.right, known.at(least, gap.goal)))]
+        return [(price_between(before, gap.left, gap.right, known.at(least, gap.goal)), least)]
     # A price is at least the difference of this number and that of the lag at the goal.
     middle = len(before[0]) - len(before[1]) + len(gap.left) - len(gap.right)
     lead = known.leads[gap.goal]
@@ -172,4 +185,4 @@ def prices_from(pairs, stop, number, gap, most):
         return []
     longest = (known.at(here[-1] - lead, gap.goal)[0], known.at(here[0] - lead, gap.goal)[1])
     ahead, aside = spread(before[0] + gap.left, longest[1], before[1] + gap.right, longest[0])
-    return [(there - lead, ahead[there] if there >= 0 else aside[-there]) for there in here]
+    return sorted([(ahead[there] if there >= 0 else aside[-there], there - lead) for there in here])
