@@ -57,16 +57,15 @@ class Paper:
         fewest = {}
         for stop, errors in self.rows:
             fewest[stop] = min(errors, fewest.get(stop, errors))
-        for stop in fewest:
-            if stop != END:
-                told = self.gaps_by_price(stop, self.many - fewest[stop])
-                rows = [(errors, row) for (met, errors), rows in self.rows.items() if met == stop for row in rows]
-                if not all([self.is_answered(stop, errors, row, told) for errors, row in rows]):
+        gaps = {stop: self.gaps_by_price(stop, self.many - fewest[stop]) for stop in fewest if stop != END}
+        for (stop, errors), rows in self.rows.items():
+            for row in rows:
+                if stop != END and not self.is_answered(stop, errors, row, gaps[stop]):
                     return False
         return True
 
     def gaps_by_price(self, stop, many):
-        """For each (stop, errors) to which gaps lead the list of (price between chosen lags, gap), the dearest first."""
+        """For each (stop met, errors of gaps) the list of (price between chosen lags, gap), the dearest first."""
         told = {}
         for gap in gaps_from(self.pairs, stop, many):
             # To a knot that the paper has not no lag is chosen, and no price is asked.
@@ -76,17 +75,17 @@ class Paper:
             told.setdefault((gap.met, gap.errors), []).append((price, gap))
         return {mark: sorted(told[mark], key=lambda row: row[0], reverse=True) for mark in told}
 
-    def is_answered(self, stop, errors, row, told):
+    def is_answered(self, stop, errors, row, gaps):
         """Whether each of the gaps behind a row leads to too many errors, or to a row that has no less."""
         ahead = least_sum(row, self.chosen[stop])
-        for (met, more), gaps in told.items():
+        for (met, more), told in gaps.items():
             together = errors + more
             needed = 0 if met == END else self.pairs.errors_from(self.pairs.knots[met][0])
             if together + needed > self.many:
                 continue
             if (met, together) not in self.rows:
                 return False
-            for price, gap in gaps:
+            for price, gap in told:
                 if ahead + price <= self.spare[(met, together)]:
                     break
                 if not self.leads_to_one(row, stop, gap, self.rows[(met, together)]):
