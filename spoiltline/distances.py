@@ -8,24 +8,25 @@ are in it.
 
 from spoiltline.checks import is_count, is_text
 from spoiltline.columns import changes_between
-from spoiltline.errors import InvalidCount, InvalidText
-from spoiltline.words import length_of_root
+from spoiltline.errors import InvalidCount
+from spoiltline.words import check_texts, length_of_root
 
 # So far ahead of row 0 that no step from here comes to a row.
 NOWHERE = -2
 # Letters that are compared at once: long texts that are mostly alike would take long letter by letter.
 BLOCK = 64
-# Up to so many changes, and one more for so many letters, going by diagonals is tried first.
-FEW = 32
-LETTERS = 100
+# Of texts with more letters, going by diagonals is tried first, up to one change for so many letters.
+LONG = 1000
+LETTERS = 50
 
 
 def distance(one, other):
     """The least number of changes that turn the one text into the other."""
     check_texts(one, other)
-    few = fewest_changes(one, other, FEW + longer(one, other) // LETTERS)
-    if few is not None:
-        return few
+    if longer(one, other) > LONG:
+        few = fewest_changes(one, other, longer(one, other) // LETTERS)
+        if few is not None:
+            return few
     return changes_between(one, other)
 
 
@@ -88,12 +89,6 @@ def is_alignment(one, other, value):
     if None in sides:
         return False
     return "".join([left for left, _ in sides]) == one and "".join([right for _, right in sides]) == other
-
-
-def check_texts(one, other):
-    for text in (one, other):
-        if not is_text(text):
-            raise InvalidText(text)
 
 
 def longer(one, other):
