@@ -3,6 +3,7 @@
 from spoiltline.checks import is_below, is_count, is_integer, is_list
 from spoiltline.courses import END, START, gaps_from, price_of
 from spoiltline.errors import TooMany
+from spoiltline.gaps import GapSearch
 from spoiltline.lags import known_lags
 from spoiltline.rows import least_sum
 
@@ -49,6 +50,7 @@ class Paper:
         self.chosen = frequent_lags(self.rows)
         self.spare = {mark: max([spare_of(row, self.chosen[mark[0]]) for row in rows])
                       for mark, rows in self.rows.items()}
+        self.search = GapSearch(pairs, {pair: pairs.errors_from(pair) for pair in pairs.useful})
         # The prices worked out so far: by the gap, the number of a lag ahead and that of a lag behind.
         self.prices = {}
 
@@ -67,7 +69,7 @@ class Paper:
     def gaps_by_price(self, stop, many):
         """For each (stop met, errors of gaps) the list of (price between chosen lags, gap), the dearest first."""
         told = {}
-        for gap in gaps_from(self.pairs, stop, many):
+        for gap in gaps_from(self.search, stop, many):
             # To a knot that the paper has not no lag is chosen, and no price is asked.
             price = 0
             if gap.met in self.chosen:

@@ -26,30 +26,18 @@ class Gap:
         self.met = met
 
 
-class Courses:
-    """The gaps of all courses with at most so many errors, where none comes to a bad knot.
+class Costs:
+    """What gaps cost between chosen lags.
 
-    For each stop the number of one lag is chosen. What gaps cost between the chosen lags is at least what they need:
-    rest tells the most that may still be needed from the chosen lag of a stop on, with so many errors left.
+    Here gaps tells for each stop the list of its gaps, and for each stop to which gaps lead from the starts the number
+    of one lag is chosen; the starts have only one. What gaps cost so is at least what they need.
     """
 
-    def __init__(self, pairs, many):
+    def __init__(self, pairs, gaps, starts):
         self.pairs = pairs
-        self.many = many
-        self.gaps = {START: gaps_from(pairs, START, many)}
-        for stop, knot in enumerate(pairs.knots):
-            left = many - pairs.errors_to(knot[0])
-            if left >= pairs.errors_from(knot[0]):
-                self.gaps[stop] = gaps_from(pairs, stop, left)
+        self.gaps = gaps
         self.prices = {}
-        self.chosen = chosen_lags(self)
-        self.rest = rest_of(greatest_costs(self, self.gaps), many)
-
-    def reached(self):
-        """All (index of a knot, errors) with which courses may come to it and on to the end."""
-        return [(stop, errors) for stop in self.gaps for errors in range(self.many + 1)
-                if stop != START and (stop, self.many - errors) in self.rest
-                and self.pairs.errors_to(self.pairs.knots[stop][0]) <= errors]
+        self.chosen = chosen_lags(pairs, gaps, starts)
 
     def cost(self, stop, gap):
         """The price of a gap from a stop between the chosen lags."""
@@ -57,6 +45,30 @@ class Courses:
         if mark not in self.prices:
             self.prices[mark] = price_of(self.pairs, stop, mark[1], gap, mark[2])
         return self.prices[mark]
+
+
+class Courses(Costs):
+    """The gaps of all courses with at most so many errors, where none comes to a bad knot.
+
+    rest tells the most that may still be needed from the chosen lag of a stop on, with so many errors left.
+    """
+
+    def __init__(self, pairs, many):
+        search = GapSearch(pairs, {pair: pairs.errors_from(pair) for pair in pairs.useful})
+        gaps = {START: gaps_from(search, START, many)}
+        for stop, knot in enumerate(pairs.knots):
+            left = many - pairs.errors_to(knot[0])
+            if left >= pairs.errors_from(knot[0]):
+                gaps[stop] = gaps_from(search, stop, left)
+        Costs.__init__(self, pairs, gaps, [START])
+        self.many = many
+        self.rest = rest_of(greatest_costs(self, self.gaps), many)
+
+    def reached(self):
+        """All (index of a knot, errors) with which courses may come to it and on to the end."""
+        return [(stop, errors) for stop in self.gaps for errors in range(self.many + 1)
+                if stop != START and (stop, self.many - errors) in self.rest
+                and self.pairs.errors_to(self.pairs.knots[stop][0]) <= errors]
 
     def choose_better(self):
         """Chooses other lags of round knots while less may be needed then."""
@@ -87,12 +99,12 @@ class Courses:
         return (rest_of(greatest, self.many)[(START, self.many)], together)
 
 
-def gaps_from(pairs, stop, many):
-    """The gaps from a stop with which, and on to the end, courses have at most so many errors.
+def gaps_from(search, stop, many):
+    """The gaps from a stop with at most so many errors, those that the search needs from their goals on counted.
 
     Of the gaps with as many errors that cost the same between the same lags there is one.
     """
-    search = GapSearch(pairs, {pair: pairs.errors_from(pair) for pair in pairs.useful})
+    pairs = search.pairs
     starts = [None] if stop == START else pairs.knots[stop]
     found = {}
     for first in starts:
@@ -149,19 +161,22 @@ def price_of(pairs, stop, number, gap, behind):
     return price_between(before, gap.left, gap.right, lag_of(pairs, gap.met, behind, gap.goal))
 
 
-def chosen_lags(courses):
+def chosen_lags(pairs, gaps, starts):
     """For each stop the number of a lag that costs little where the first row of gaps leads to it."""
     chosen = {START: 0, END: 0}
-    queue = [START]
+    for stop in starts:
+        if stop != START:
+            chosen[stop] = known_lags(pairs, stop).told[1]
+    queue = list(starts)
     at = 0
     while at < len(queue):
         stop = queue[at]
         at += 1
-        for gap in courses.gaps[stop]:
+        for gap in gaps.get(stop, []):
             if gap.met not in chosen:
-                before = lag_of(courses.pairs, stop, chosen[stop], gap.first)
+                before = lag_of(pairs, stop, chosen[stop], gap.first)
                 number = len(before[0]) - len(before[1]) + len(gap.left) - len(gap.right)
-                chosen[gap.met] = nearest(known_lags(courses.pairs, gap.met), gap.goal, number)
+                chosen[gap.met] = nearest(known_lags(pairs, gap.met), gap.goal, number)
                 queue.append(gap.met)
     return chosen
 

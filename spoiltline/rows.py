@@ -118,15 +118,9 @@ class Search:
         no more than the bound."""
         sums = {}
         for number, total in node.row:
-            for price, goal in self.prices_to(node.stop, number, gap):
-                if total + price > bound:
-                    break
-                sums[goal] = min(total + price, sums.get(goal, total + price))
+            add_sums(sums, total, self.prices_to(node.stop, number, gap), bound)
         rest = self.courses.rest[(gap.met, self.courses.many - node.errors - gap.errors)]
-        most = least_sum(list(sums.items()), self.courses.chosen[gap.met]) + rest
-        step = known_lags(self.courses.pairs, gap.met).told[2]
-        return tuple(sorted([(goal, total) for goal, total in sums.items()
-                             if total <= most and (step is None or is_corner(sums, goal, step))]))
+        return corners_of(self.courses, gap.met, sums, rest)
 
     def prices_to(self, stop, number, gap):
         mark = (gap, number)
@@ -153,6 +147,23 @@ class Search:
 def least_sum(row, number):
     """What a row has for the lag with this number."""
     return min([total + abs(corner - number) for corner, total in row])
+
+
+def add_sums(sums, total, prices, bound):
+    """Adds to the sums, for each lag the least one so far, those of this total and a price, up to the bound."""
+    for price, goal in prices:
+        if total + price > bound:
+            break
+        sums[goal] = min(total + price, sums.get(goal, total + price))
+
+
+def corners_of(costs, stop, sums, rest):
+    """The row at a stop that has these sums, without the lags that need more than going on from the chosen one, from
+    which no more than the rest is needed."""
+    most = least_sum(list(sums.items()), costs.chosen[stop]) + rest
+    step = known_lags(costs.pairs, stop).told[2]
+    return tuple(sorted([(number, total) for number, total in sums.items()
+                         if total <= most and (step is None or is_corner(sums, number, step))]))
 
 
 def is_corner(sums, number, step):
