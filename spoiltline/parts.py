@@ -143,7 +143,7 @@ class ErrorPlaces:
         self.first = pairs.knot_of((states[0], states[0]))
         self.goals = self.closed_knots()
         self.search = GapSearch(pairs, {pair: 0 if pair in self.inside else 2 for pair in pairs.useful})
-        self.known = {}
+        self.prices = {}
 
     def closed_knots(self):
         free = {pair: [edge[1] for edge in self.pairs.edges(pair) if is_free(edge[0]) and edge[1] in self.inside]
@@ -157,7 +157,7 @@ class ErrorPlaces:
 
     def led(self, place):
         """For each of these places to which one error leads from one of them the greatest price."""
-        if place not in self.known:
+        if place not in self.prices:
             gaps = {place: self.gaps_within(place, 1)}
             stack = [gap.met for gap in gaps[place]]
             while stack:
@@ -166,8 +166,8 @@ class ErrorPlaces:
                     gaps[stop] = self.gaps_within(stop, 0)
                     stack.extend([gap.met for gap in gaps[stop]])
             spans = Spans(self.pairs, gaps, [place], list(self.goals), 1)
-            self.known[place] = {goal: steps[-1][1] for goal, steps in spans.greatest(place).items()}
-        return self.known[place]
+            self.prices[place] = {goal: steps[-1][1] for goal, steps in spans.greatest(place).items()}
+        return self.prices[place]
 
     def gaps_within(self, stop, many):
         """The gaps from a stop with at most so many errors to knots of these pairs."""

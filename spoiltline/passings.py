@@ -24,8 +24,7 @@ def is_passing(value, signs):
 
 def all_kinds(signs):
     """The ascending list of all kinds for this number of signs."""
-    if not is_number_of_signs(signs):
-        raise InvalidSigns(signs)
+    check_signs(signs)
     lost = [("lost", sign) for sign in range(signs)]
     put = [("put", sign) for sign in range(signs)]
     turned = [("turned", sign, other) for sign in range(signs) for other in range(signs) if sign != other]
@@ -126,6 +125,12 @@ def is_free(step):
 def are_kinds(value, signs):
     """Whether the value is a list of kinds for this number of signs."""
     return is_list(value) and all([is_kind(kind, signs) for kind in value])
+
+
+def check_signs(value):
+    """Raises what is raised for a number of signs."""
+    if not is_number_of_signs(value):
+        raise InvalidSigns(value)
 
 
 def check_decoder(value):

@@ -3,13 +3,14 @@
 from math import lcm
 
 from spoiltline.checks import is_count
-from spoiltline.decoders import Decoder, states_met, turned_round
+from spoiltline.decoders import states_met, turned_round
 from spoiltline.endless import least_of
-from spoiltline.errors import Endless, InvalidCount, InvalidDecoder, NotReturning, NotSteady, OneWord
+from spoiltline.errors import Endless, InvalidCount, NotReturning, NotSteady, OneWord
 from spoiltline.graphs import fewest_errors
 from spoiltline.harms import searched
 from spoiltline.pairs import Pairs
-from spoiltline.parts import (ErrorPlaces, cost_of_states, edges_with_leads, quotient_of, trimmed_states, word_round)
+from spoiltline.parts import ErrorPlaces, edges_with_leads, max_quotient, quotient_of, trimmed_states, word_round
+from spoiltline.passings import check_decoder
 from spoiltline.rings import tight_edges
 from spoiltline.steady import is_steady, price_of_steady
 from spoiltline.subsets import line_together
@@ -39,11 +40,11 @@ def period(decoder, kinds):
         raise NotSteady()
     pairs = returning_pairs(decoder, kinds)
     states = trimmed_states(decoder)
-    if states == [] or cost_of_states(pairs, states)[0] == 0:
+    if states == []:
         return 1
-    if one_word(decoder) is not None:
-        return errors_of_one_word(pairs, states)
-    return errors_back(ErrorPlaces(pairs, states))
+    if one_word(decoder) is None:
+        return errors_back(ErrorPlaces(pairs, states))
+    return errors_of_one_word(pairs, states)
 
 
 def whole_row(decoder, kinds, most):
@@ -78,11 +79,6 @@ def together(decoder):
     return None if states == [] else line_together(decoder, states, is_one)
 
 
-def check_decoder(value):
-    if not isinstance(value, Decoder):
-        raise InvalidDecoder(value)
-
-
 def all_ahead(decoder):
     """For each state the list of the states to which its entries lead."""
     return [[entry[0] for entry in row if entry is not None] for row in decoder.steps]
@@ -101,9 +97,11 @@ def returning_pairs(decoder, kinds):
 def errors_back(places):
     """The fewest errors that lead from the place of equal states back to it, each of them at the greatest price.
 
-    Such a ring may stand ahead of any course, so so many errors more never cost less.
+    Such a ring may stand ahead of any course, so that many errors more never cost less.
     """
-    most = max(list(places.led(places.first).values()))
+    most = max([0] + list(places.led(places.first).values()))
+    if most == 0:
+        return 1
     errors = 0
     newest = [places.first]
     met = {}
@@ -119,12 +117,15 @@ def errors_back(places):
 
 
 def errors_of_one_word(pairs, states):
-    """A number of errors of rings through equal states on which either side that may, writes more by the price.
+    """A number of errors of rings through equal states, on which the side that may write more does so by the price:
+    one ring for the left and one for the right, where both may.
 
-    What is written is one word round and round, so many errors go on writing more on one side. The ring is put into
-    their way: it makes the difference of both lengths greater, and so the harm.
+    One word is written round and round. So where the harm of many errors is great, one side writes more, and a ring
+    put ahead makes the difference of both lengths, and with it the harm, greater by the price.
     """
-    best = cost_of_states(pairs, states)
+    best = max_quotient([quotient_of(pairs, states, 1), quotient_of(pairs, states, -1)])
+    if best[0] == 0:
+        return 1
     errors = 1
     for side in (1, -1):
         if quotient_of(pairs, states, side) == best:

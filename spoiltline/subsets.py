@@ -11,22 +11,23 @@ def line_together(decoder, states, is_goal):
     if not can_all_meet(decoder, states):
         return None
     start = sum([1 << state for state in states])
+    if is_goal(start):
+        return ()
     bits = {state: [bit_behind(decoder, state, sign, start) for sign in range(decoder.signs)] for state in states}
     behind = {start: None}
     queue = [start]
     at = 0
     while at < len(queue):
-        members = queue[at]
-        at += 1
-        if is_goal(members):
-            return line_to(behind, members)
         for sign in range(decoder.signs):
-            goal = set_behind(bits, members, sign)
+            goal = set_behind(bits, queue[at], sign)
             if goal is not None and goal not in behind:
-                behind[goal] = (members, sign)
+                behind[goal] = (queue[at], sign)
                 queue.append(goal)
+                if is_goal(goal):
+                    return line_to(behind, goal)
         if len(behind) > MOST_SETS:
             raise TooMany(len(behind))
+        at += 1
     return None
 
 

@@ -11,6 +11,8 @@ BUILTINS = {"len", "range", "enumerate", "zip", "min", "max", "sum", "abs", "sor
 BARRED = (ast.Set, ast.SetComp, ast.GeneratorExp, ast.AsyncFunctionDef, ast.Await, ast.Global, ast.Div, ast.Yield,
           ast.YieldFrom, ast.With, ast.Match, ast.NamedExpr, ast.Nonlocal, ast.Delete, ast.Assert, ast.AnnAssign)
 VIEWS = ("items", "keys", "values")
+# What may be imported from elsewhere [L2].
+LIBRARY = {"math": {"gcd", "lcm"}}
 # What strings, numbers, lists, dicts, sets and bytes have, but for what L25 and L26 leave free.
 BUILTIN_METHODS = {name for kind in (str, int, list, dict, set, bytes) for name in dir(kind)} - {
     "count", "index", "title", "find", "get", "join", "lower", "upper", "split", "strip", "copy", "add", "discard"}
@@ -18,6 +20,11 @@ BUILTIN_METHODS = {name for kind in (str, int, list, dict, set, bytes) for name 
 
 def sources():
     return sorted(path for path in PACKAGE.rglob("*") if "__pycache__" not in path.parts)
+
+
+def imported(tree):
+    """The imports from files of the package."""
+    return [node for node in tree.body if isinstance(node, ast.ImportFrom) and node.module not in LIBRARY]
 
 
 def functions(tree):
@@ -65,8 +72,12 @@ class Statements(unittest.TestCase):
     def test_imports(self):
         for path, node in self.nodes(ast.Import, ast.ImportFrom):
             self.assertIsInstance(node, ast.ImportFrom, path)
-            self.assertTrue(node.level == 0 and node.module.startswith("spoiltline."), path)
+            self.assertEqual(node.level, 0, path)
             self.assertTrue(all(alias.asname is None and alias.name != "*" for alias in node.names), path)
+            if node.module in LIBRARY:
+                self.assertLessEqual({alias.name for alias in node.names}, LIBRARY[node.module], path)
+            else:
+                self.assertTrue(node.module.startswith("spoiltline."), path)
 
     def test_nothing_barred(self):
         self.assertEqual([(path.name, node.lineno) for path, node in self.nodes(*BARRED)], [])
@@ -108,6 +119,9 @@ class Statements(unittest.TestCase):
         for path in sources():
             tree = ast.parse(path.read_text())
             told = [node.iter for node in ast.walk(tree) if isinstance(node, (ast.For, ast.comprehension))]
+            for node in ast.walk(tree):
+                if isinstance(node, ast.Call) and getattr(node.func, "id", "") in ("list", "tuple"):
+                    told += node.args[:1]
             for node in ast.walk(tree):
                 if isinstance(node, ast.Call) and getattr(node.func, "id", "") in ("range", "zip", "enumerate", "reversed"):
                     self.assertIn(node, told, (path, node.lineno))
@@ -166,7 +180,7 @@ class Names(unittest.TestCase):
         told = {}
         for path in sources():
             tree = ast.parse(path.read_text())
-            told[path.stem] = {node.module.split(".")[1] for node in tree.body if isinstance(node, ast.ImportFrom)}
+            told[path.stem] = {node.module.split(".")[1] for node in imported(tree)}
         while told:
             last = [name for name in told if not told[name] & set(told)]
             self.assertNotEqual(last, [], told)
@@ -176,8 +190,8 @@ class Names(unittest.TestCase):
     def test_what_is_imported_is_used_and_defined_there(self):
         for path in sources():
             text = path.read_text()
-            for node in ast.parse(text).body:
-                for alias in node.names if isinstance(node, ast.ImportFrom) else ():
+            for node in imported(ast.parse(text)):
+                for alias in node.names:
                     self.assertGreater(len(re.findall(rf"\b{alias.name}\b", text)), 1, (path, alias.name))
                     there = ast.parse((PACKAGE / f"{node.module.split('.')[1]}.py").read_text()).body
                     names = [part.name for part in there if isinstance(part, (ast.FunctionDef, ast.ClassDef))]
