@@ -4,7 +4,8 @@ import inspect
 import unittest
 
 from helpers import CODE, LOST, cases, check_refused, many_decoders
-from spoiltline import decoders, distances, endless, gaps, harms, lags, pairs, passings, words
+from spoiltline import (builders, codecs, codes, decoders, desk, distances, endless, gaps, harms, lags, pairs, passings,
+                        returning, sections, staircases, steady, words)
 from spoiltline.errors import InvalidText
 
 FUNCTIONS = {
@@ -22,6 +23,18 @@ FUNCTIONS = {
     gaps: {"gaps": ["pairs", "start", "many"], "gap_price": ["before", "left", "right", "behind"]},
     harms: {"harm": ["decoder", "kinds", "many"], "worst": ["decoder", "kinds", "many"],
             "ceiling": ["decoder", "kinds", "many"], "is_ceiling": ["decoder", "kinds", "many", "number", "value"]},
+    sections: {name: ["decoder", "kinds"] for name in ("is_pinned", "places", "sections")},
+    staircases: {"harm_row": ["decoder", "kinds", "many"], "slope": ["decoder", "kinds"],
+                 "staircase": ["decoder", "kinds"]},
+    steady: {name: ["decoder", "kinds"] for name in ("is_steady", "price", "classes", "spare")},
+    returning: {"comes_back": ["decoder"], "one_word": ["decoder"], "period": ["decoder", "kinds"],
+                "whole_row": ["decoder", "kinds", "most"], "together": ["decoder"]},
+    codes: {"is_code": ["value", "signs"], **{name: ["code", "signs"] for name in
+                                              ("is_full", "reader", "is_safe", "code_price", "mends")}},
+    codecs: {"copier": ["signs"], "escaped": ["signs", "mark"], "shifted": ["signs"], "run_lengths": ["signs"],
+             "with_check": ["decoder", "size"], "with_marker": ["decoder"]},
+    builders: {"is_row": ["value"], "row_at": ["row", "many"], "built": ["row"], "is_subadditive": ["row"],
+               "built_accepting": ["row"]},
 }
 METHODS = {
     decoders.Decoder: {"__init__": ["self", "signs", "steps", "ends"], "written": ["self", "line"],
@@ -29,6 +42,7 @@ METHODS = {
     pairs.Pairs: {"__init__": ["self", "decoder", "kinds"], "edges": ["self", "pair"], "errors_to": ["self", "pair"],
                   "errors_from": ["self", "pair"], "way": ["self", "start", "goal"], "way_out": ["self", "start"],
                   "knot_of": ["self", "pair"]},
+    desk.Desk: {"__init__": ["self", "decoder"], "do": ["self", "text"], "script": ["self"]},
 }
 
 
@@ -48,6 +62,7 @@ class Names(unittest.TestCase):
     def test_methods_stand_in_the_class_itself(self):
         self.assertEqual(decoders.Decoder.__module__, "spoiltline.decoders")
         self.assertEqual(pairs.Pairs.__module__, "spoiltline.pairs")
+        self.assertEqual(desk.Desk.__module__, "spoiltline.desk")
         for kind, methods in METHODS.items():
             for name, told in methods.items():
                 self.assertEqual(arguments(vars(kind)[name]), told)
@@ -88,7 +103,17 @@ class Conventions(unittest.TestCase):
         harms.is_ceiling(CODE, kinds, 2, 4, paper)
         passings.plain_harm(CODE, kinds, 1, 2)
         passings.least_passing((0, 1), (1,), kinds)
+        for call in (sections.places, staircases.slope, steady.classes, steady.spare, returning.period):
+            call(CODE, kinds[1:])
+            call(decoders.Decoder(2, [[(0, "a"), (0, "b")]], [""]), kinds)
+        returning.whole_row(CODE, kinds, 2)
         self.assertEqual((kinds, paper), before)
+        code, row = [[(0,), (1, 0), (1, 1)], ([0, 2, 3], 1, 1)]
+        for call in (codes.reader, codes.mends, codes.code_price):
+            call(code, 2)
+        for call in (builders.built, builders.built_accepting, builders.is_subadditive):
+            call(row)
+        self.assertEqual((code, row), ([(0,), (1, 0), (1, 1)], ([0, 2, 3], 1, 1)))
 
     def test_equal_answers_for_equal_arguments(self):
         for decoder, kinds in cases(5, 10):

@@ -162,6 +162,16 @@ class Prices(unittest.TestCase):
         # One ring of all states: too many gaps would have to lead from it to a place, and none does.
         self.assertEqual(price(Decoder(2, [*words, [(0, "aab"), (0, "b")]], [""] * 40), kinds), (2, 1))
 
+    def test_too_many(self):
+        # Behind an error both runs go along the chain, one state apart, and may write too many texts.
+        chain = [[*[(min(at + 1, 30), letter) for letter in "abcd"], (0, "")] for at in range(31)]
+        told, kinds = Decoder(5, chain, [""] * 31), [("lost", 0)]
+        self.assertRaises(TooMany, gaps, Pairs(told, kinds), (0, 0), 1)
+        for call in (price, spare):
+            with self.assertRaises(TooMany) as caught:
+                call(told, kinds)
+            self.assertGreater(caught.exception.count, 20000)
+
 
 class Classes(unittest.TestCase):
     def test_against_the_words(self):
