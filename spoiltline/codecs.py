@@ -63,9 +63,14 @@ def with_check(decoder, size):
         at += 1
     if len(numbers) > MOST_STATES:
         raise TooMany(len(numbers))
-    steps = [[None if entry is None else (numbers[entry[0]], entry[1]) for entry in row] for row in rows]
+    steps = [numbered(row, numbers) for row in rows]
     ends = [decoder.ends[state] if many == 0 else None for state, many, _ in queue]
     return Decoder(decoder.signs, steps, ends)
+
+
+def numbered(row, numbers):
+    """The entries of a state, with the numbers of states in the place of what they are numbered for."""
+    return [None if entry is None else (numbers[entry[0]], entry[1]) for entry in row]
 
 
 def checked_entry(decoder, size, place, sign):

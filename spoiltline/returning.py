@@ -109,10 +109,11 @@ def errors_back(places):
         errors += 1
         found = []
         for place in newest:
-            found.extend([goal for goal, told in places.led(place).items() if told == most])
-        newest = [goal for goal in {goal: True for goal in found} if goal not in met]
-        for goal in newest:
-            met[goal] = True
+            for goal, told in places.led(place).items():
+                if told == most and goal not in met:
+                    met[goal] = True
+                    found.append(goal)
+        newest = found
     return errors
 
 

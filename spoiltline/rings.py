@@ -96,12 +96,16 @@ def common_errors(edges):
     for edge in edges:
         ahead[edge[0]].append(edge)
     divisors = []
-    for points in strong_sets({point: [edge[1] for edge in ahead[point]] for point in ahead}):
+    for points in strong_sets({point: goals_of(ahead[point]) for point in ahead}):
         inside = {point: True for point in points}
-        within = [edge for point in points for edge in ahead[point] if edge[1] in inside]
+        within = [told for point in points for told in ahead[point] if told[1] in inside]
         if within != []:
             divisors.append(divisor_of(points[0], within))
     return divisors
+
+
+def goals_of(edges):
+    return [edge[1] for edge in edges]
 
 
 def divisor_of(start, edges):

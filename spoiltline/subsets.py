@@ -13,7 +13,7 @@ def line_together(decoder, states, is_goal):
     start = sum([1 << state for state in states])
     if is_goal(start):
         return ()
-    bits = {state: [bit_behind(decoder, state, sign, start) for sign in range(decoder.signs)] for state in states}
+    bits = {state: bits_behind(decoder, state, start) for state in states}
     behind = {start: None}
     queue = [start]
     at = 0
@@ -31,10 +31,9 @@ def line_together(decoder, states, is_goal):
     return None
 
 
-def bit_behind(decoder, state, sign, inside):
-    """The bit of the state behind a sign, 0 if there is none among those inside."""
-    entry = decoder.steps[state][sign]
-    return 0 if entry is None else (1 << entry[0]) & inside
+def bits_behind(decoder, state, inside):
+    """For each sign the bit of the state behind it, 0 if there is none among those inside."""
+    return [0 if entry is None else (1 << entry[0]) & inside for entry in decoder.steps[state]]
 
 
 def set_behind(bits, members, sign):
