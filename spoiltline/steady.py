@@ -8,7 +8,7 @@ from spoiltline.passings import check_kinds, steps_with
 
 # In the place of a state: the line is rejected.
 REJECTED = -1
-# So many times the number of states, times itself and once more, the harm is at most above the price [126].
+# The harm is at most so many times the third power of the number of states above what the price tells.
 SPARE = 66
 
 
@@ -54,6 +54,7 @@ def classes(decoder, kinds):
 def spare(decoder, kinds):
     """A number of changes that no harm is above what its errors cost by the price; None if harm is endless."""
     pairs = steady_pairs(decoder, kinds)
+    # The price itself is not needed for what is told here, but what price refuses is refused, too.
     if price_of_steady(pairs) is None:
         return None
     return SPARE * decoder.states * decoder.states * decoder.states

@@ -2,7 +2,7 @@
 
 import random
 
-from helpers import all_kinds, late_decoder, random_text, small_decoder
+from helpers import all_kinds, late_decoder, random_text, round_decoder, small_decoder
 from spoiltline.builders import is_row
 from spoiltline.decoders import Decoder
 
@@ -39,24 +39,11 @@ def place_cases(seed, many):
 
 
 def one_word_decoder(dice):
-    """One that writes a word round and round, and accepts every line; None where no such state is left."""
-    signs, states = dice.randint(1, 2), dice.randint(1, 5)
-    word = dice.choice(["ab", "abc", "a", "a", "aab"])
-    lengths = [dice.randint(0, 3) for _ in range(signs)]
-    places = [0, *[dice.randrange(len(word)) for _ in range(states - 1)]]
-    heights = [dice.randint(0, 2) for _ in range(states)]
-    steps = []
-    for state in range(states):
-        row = []
-        for sign in range(signs):
-            goals = [goal for goal in range(states) if (places[state] + lengths[sign] - places[goal]) % len(word) == 0
-                     and 0 <= lengths[sign] + heights[goal] - heights[state] <= 3]
-            if not goals:
-                return None
-            goal, at = dice.choice(goals), (places[state] + heights[state]) % len(word)
-            row.append((goal, (word * 9)[at:at + lengths[sign] + heights[goal] - heights[state]]))
-        steps.append(row)
-    return Decoder(signs, steps, [random_text(dice, "ab", 2) for _ in range(states)])
+    """One that writes a word round and round, and accepts every line; None where some entry is missing."""
+    decoder = round_decoder(dice)
+    if any(entry is None for row in decoder.steps for entry in row):
+        return None
+    return Decoder(decoder.signs, decoder.steps, [random_text(dice, "ab", 2) for _ in range(decoder.states)])
 
 
 def turning_decoder(dice):
