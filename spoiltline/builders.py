@@ -37,16 +37,17 @@ def row_at(row, many):
 def built(row):
     """A decoder and kinds whose harm is, for each number of errors, what the row tells.
 
-    The line sent begins with sign 0, and nothing is written for it. It comes with sign 1 at its beginning, and from
-    there on each state takes either sign 1 alone, which is one error more, or sign 2 alone, and writes as many letters
-    as the row tells for so many errors. As no state but the first one takes both 0 and 1, no other error goes unseen.
+    The line sent begins with sign 0, goes on without a sign 1, and nothing is written for it. With an error it begins
+    with sign 1; from there on each state takes either sign 1 alone, which is one error more, or sign 2 alone, and as
+    many letters are written as the row tells for so many errors. As no state but the first one takes both 0 and 1, all
+    other errors lead to lines that are rejected.
     """
     check_row(row)
     rises = rises_of(row)
-    # State 0 begins, state 1 reads what was sent; where a number of errors is begun with is told by starts.
+    # State 0 begins, state 1 reads what was sent; starts tells the state behind each number of errors.
     starts = [2]
     for rise in rises:
-        starts.append(starts[-1] + states_for(rise))
+        starts.append(starts[-1] + len(words_for(rise)))
     steps = [[(1, ""), None, None], [(1, ""), None, (1, "")]]
     ends = ["", ""]
     for many, rise in enumerate(rises):
@@ -71,8 +72,11 @@ def is_subadditive(row):
 def built_accepting(row):
     """As built, with a decoder that accepts every line, or None.
 
-    It counts the signs 1 ahead of the first sign 2, and writes for all but some of them, by threes, what the row tells.
-    The rest of it is owed, and written by and by behind that sign, whatever comes then.
+    It counts the signs 1 ahead of the first sign 2, and writes for each one by how much the row rises. Where that may
+    be more than one word, all threes of it are owed: from the first sign 2 on each sign, whatever it is, writes three
+    letters until nothing is owed any more. Errors do not change where that sign stands, so what is written for two
+    counts never differs by more than their numbers do, which is, as the row is subadditive, no more than the number for
+    their difference.
     """
     check_row(row)
     rises = rises_of(row)
@@ -116,10 +120,6 @@ def rises_of(row):
     """By how much the numbers up to that of the length of first rise; from there on the last ones, as many as the
     period, come again and again."""
     return [number_at(row, many + 1) - number_at(row, many) for many in range(len(row[0]))]
-
-
-def states_for(rise):
-    return len(words_for(rise))
 
 
 def words_for(rise):
